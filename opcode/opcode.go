@@ -1,6 +1,9 @@
 // Package opcode names instructions by their numbers, for all packages that tell them apart: see doc/03-ops.md.
 package opcode
 
+// TwoBytes is where the instructions of two bytes begin: one of them has this number and that of its second byte together.
+const TwoBytes = 0xfc00
+
 // The instructions that steer a run.
 const (
 	Unreachable = 0x00
