@@ -1,4 +1,4 @@
-// Package wire names the bytes of the binary format that stand beside the instructions, for all packages that write or read them: see doc/08-write.md.
+// Package wire names the bytes of the binary format that stand beside the instructions, for all packages that write or read them: see doc/08-write.md and doc/09-read.md.
 package wire
 
 // Header begins every encoding: the mark of a module, and the version.
@@ -22,6 +22,7 @@ const (
 const (
 	FuncType   = 0x60 // a type
 	ImportFunc = 0x00 // an import: a function
+	MinAlone   = 0x00 // a memory: how many pages it begins with
 	MinAndMax  = 0x01 // a memory: both of its numbers of pages
 	Fixed      = 0x00 // a global: it isn't set
 	Variable   = 0x01 // a global: it may be set
