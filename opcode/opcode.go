@@ -35,6 +35,9 @@ const (
 	F64Const  = 0x44
 )
 
+// FirstStore is where the stores begin: the loads and stores with a smaller number are loads.
+const FirstStore = 0x36
+
 // The instructions for memories as wholes.
 const (
 	MemorySize = 0x3f
