@@ -1,4 +1,4 @@
-package check
+package walk
 
 import (
 	"plainsong/api"

@@ -1,4 +1,5 @@
-package check
+// Package walk follows the code of a function from instruction to instruction, with the types that lie on the stack, for the packages that ask which types these are, or whether they are right: see doc/10-check.md.
+package walk
 
 import (
 	"slices"
@@ -9,11 +10,8 @@ import (
 	"plainsong/ops"
 )
 
-// nowhere is the position where no instruction is at fault.
-const nowhere = -1
-
-// walk goes through the code of a function, with the stacks as they are before the next instruction.
-type walk struct {
+// Walk goes through the code of a function, with the stacks as they are before the next instruction.
+type Walk struct {
 	stacks
 	m       api.Module
 	profile int
@@ -21,31 +19,43 @@ type walk struct {
 	results []int // of the function
 }
 
-// Func checks the Code of one of m's Funcs. It returns the position of the first instruction that is not allowed, and what is wrong with it.
-func Func(m api.Module, f int, profile int) (int, api.Errno) {
+// Begin returns a walk that stands before the first instruction of one of m's Funcs: ErrArg if there is no such function, ErrIndex if it has no type.
+func Begin(m api.Module, f, profile int) (*Walk, api.Errno) {
 	if !within(f, len(m.Funcs)) {
-		return nowhere, api.ErrArg
+		return nil, api.ErrArg
 	}
 	index := len(m.Imports) + f
 	t, is := module.Sig(m, index)
 	if !is {
-		return nowhere, api.ErrIndex
+		return nil, api.ErrIndex
 	}
-	w := walk{m: m, profile: profile, locals: module.Locals(m, index), results: t.Results}
+	w := &Walk{m: m, profile: profile, locals: module.Locals(m, index), results: t.Results}
 	w.begin(opcode.Block, api.Type{Results: t.Results})
-	for at, i := range m.Funcs[f].Code {
-		if why := w.step(i); why != api.OK {
-			return at, why
-		}
-	}
-	if len(w.frames) > 0 {
-		return nowhere, api.ErrForm
-	}
-	return nowhere, api.OK
+	return w, api.OK
 }
 
-// step takes the walk over i, unless i is not allowed.
-func (w *walk) step(i api.Inst) api.Errno {
+// Types returns the types on the stack, those below the innermost frame with them, the topmost last.
+func (w *Walk) Types() []int {
+	return slices.Clone(w.types)
+}
+
+// Height returns how many types lie on the stack.
+func (w *Walk) Height() int {
+	return len(w.types)
+}
+
+// Dead reports whether nothing reaches the next instruction.
+func (w *Walk) Dead() bool {
+	return len(w.frames) > 0 && w.top().dead
+}
+
+// Ended reports whether the last end is behind.
+func (w *Walk) Ended() bool {
+	return len(w.frames) == 0
+}
+
+// Step takes the walk over i, unless i is not allowed: then the walk is of no more use.
+func (w *Walk) Step(i api.Inst) api.Errno {
 	switch {
 	case !w.inPlace(i.Op):
 		return api.ErrForm
@@ -59,10 +69,10 @@ func (w *walk) step(i api.Inst) api.Errno {
 	return api.OK
 }
 
-// inPlace reports whether there is such an instruction and it may stand here. In a valid module whose blocks have their ends that is always so, but Func may be given any other.
-func (w *walk) inPlace(op int) bool {
+// inPlace reports whether there is such an instruction and it may stand here. In a valid module whose blocks have their ends that is always so, but check.Func may be given any other.
+func (w *Walk) inPlace(op int) bool {
 	switch {
-	case len(w.frames) == 0:
+	case w.Ended():
 		return false
 	case op == opcode.Else:
 		return w.top().op == opcode.If
@@ -76,7 +86,7 @@ func rich(i api.Inst) bool {
 }
 
 // exists reports whether there is everything that i names by an index.
-func (w *walk) exists(i api.Inst) bool {
+func (w *Walk) exists(i api.Inst) bool {
 	mems, datas := len(w.m.Mems), len(w.m.Datas)
 	switch i.Op {
 	case opcode.Block, opcode.Loop, opcode.If:
@@ -107,7 +117,7 @@ func (w *walk) exists(i api.Inst) bool {
 }
 
 // labelsExist reports whether there are all labels of a br_table; without a last one, that one doesn't exist.
-func (w *walk) labelsExist(l []int) bool {
+func (w *Walk) labelsExist(l []int) bool {
 	for _, n := range l {
 		if !within(n, len(w.frames)) {
 			return false
@@ -117,7 +127,7 @@ func (w *walk) labelsExist(l []int) bool {
 }
 
 // follow changes the stacks as i does, and reports whether the types allow it.
-func (w *walk) follow(i api.Inst) bool {
+func (w *Walk) follow(i api.Inst) bool {
 	switch i.Op {
 	case opcode.Block, opcode.Loop, opcode.If:
 		return w.open(i)
@@ -154,7 +164,7 @@ func (w *walk) follow(i api.Inst) bool {
 }
 
 // open begins a block, loop or if.
-func (w *walk) open(i api.Inst) bool {
+func (w *Walk) open(i api.Inst) bool {
 	if i.Op == opcode.If && !w.take(api.I32) {
 		return false
 	}
@@ -167,7 +177,7 @@ func (w *walk) open(i api.Inst) bool {
 }
 
 // divide ends an if and begins its else.
-func (w *walk) divide() bool {
+func (w *Walk) divide() bool {
 	f, is := w.finish()
 	if is {
 		w.begin(opcode.Else, f.kind)
@@ -176,7 +186,7 @@ func (w *walk) divide() bool {
 }
 
 // close ends the innermost frame. An if without else does nothing when it isn't entered, so its parameters are its results then.
-func (w *walk) close() bool {
+func (w *Walk) close() bool {
 	f, is := w.finish()
 	if !is || f.op == opcode.If && !slices.Equal(f.kind.Params, f.kind.Results) {
 		return false
@@ -186,7 +196,7 @@ func (w *walk) close() bool {
 }
 
 // branch follows a br_table, whose labels have to agree with what is on the stack, each by itself.
-func (w *walk) branch(labels []int) bool {
+func (w *Walk) branch(labels []int) bool {
 	if !w.take(api.I32) {
 		return false
 	}
@@ -200,7 +210,7 @@ func (w *walk) branch(labels []int) bool {
 }
 
 // choose follows a select. Its result has the type of the upper value: where that is not known, the lower one's is not known either, as dead code takes what is not known from below all that it has.
-func (w *walk) choose() bool {
+func (w *Walk) choose() bool {
 	if !w.take(api.I32) {
 		return false
 	}
@@ -214,7 +224,7 @@ func (w *walk) choose() bool {
 }
 
 // effect returns the types that i takes and those that it gives, if it does nothing else to the stacks.
-func (w *walk) effect(i api.Inst) (takes, gives []int) {
+func (w *Walk) effect(i api.Inst) (takes, gives []int) {
 	switch i.Op {
 	case opcode.BrIf:
 		l := w.label(i.A)
@@ -256,4 +266,9 @@ func fixed(op int) (takes, gives []int) {
 		return []int{api.I32}, []int{t}
 	}
 	return nil, nil
+}
+
+// within reports whether n is an index of a list of this length.
+func within(n, length int) bool {
+	return n >= 0 && n < length
 }
